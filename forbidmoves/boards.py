@@ -132,10 +132,7 @@ class Board:
     def __call__(self, play, forbidden=()):
         check_set(self, forbidden)
         check_play(self, play, forbidden)
-        spot = play[-1]
-        if self._fields[spot].goal:
-            return []
-        return steps_from(self, spot, forbidden)
+        return next_fields(self, play[-1], forbidden)
 
     def price(self, move):
         """Return the cost of forbidding a move."""
@@ -206,6 +203,13 @@ def steps_from(board, name, forbidden):
     return [target for target in board.names if target in field and (name, target) not in forbidden]
 
 
+def next_fields(board, name, forbidden):
+    """List the fields to which the token can be moved from a field, in the order of the board."""
+    if board[name].goal:
+        return []
+    return steps_from(board, name, forbidden)
+
+
 def has_field(board, value):
     """Tell whether a value is the name of a field of the board."""
     return isinstance(value, str) and value in board.names
@@ -221,15 +225,11 @@ def check_set(board, value):
     """Raise BadSet if a value is not a tuple of moves with a price, in the order of the prices."""
     if not isinstance(value, tuple):
         raise BadSet("not a tuple")
-    priced = board.moves
-    last = -1
     for move in value:
         if move not in board:
             raise BadSet("not a move that has a price")
-        place = priced.index(move)
-        if place <= last:
-            raise BadSet("a move twice, or not in the order of the prices")
-        last = place
+    if list(value) != [move for move in board.moves if move in value]:
+        raise BadSet("a move twice, or not in the order of the prices")
 
 
 def check_play(board, value, forbidden):

@@ -39,6 +39,17 @@ def some_boards(many, most_fields=8, seed=1):
         yield raw, made(raw, draw.choice(names), prices)
 
 
+def mixed_boards(many, seed=1):
+    """Yield pairs (raw, board) in which some sets are winning and some are not, the same ones each time."""
+    for raw, board in some_boards(many * 40, seed=seed):
+        won = [wins(raw, board.start, chosen) for chosen in sets_of(board)]
+        if any(won) and not won[0]:
+            yield raw, board
+            many -= 1
+        if many == 0:
+            return
+
+
 def sets_of(board):
     """List all sets of moves of a board."""
     moves = board.moves
@@ -106,6 +117,61 @@ def holds_by_the_words(raw, start, forbidden, trap):
         if raw[name][0] == 1 and any(step not in trap for step in steps_of(raw, forbidden, name)):
             return False
     return True
+
+
+def wins(raw, start, forbidden):
+    """Tell whether a set is winning: the last words of point 5."""
+    return wins_within(raw, forbidden, start, len(raw))
+
+
+def cost_by_the_words(board, forbidden):
+    """Return the sum of the costs of the moves of a set."""
+    total = 0
+    for move in forbidden:
+        total += board.price(move)
+    return total
+
+
+def caught_by_the_words(raw, start, traps, sets):
+    """Tell whether all items are traps, and against each set one of them holds: what point 8 says of traps."""
+    for item in traps:
+        if not trap_by_the_words(raw, start, item):
+            return False
+    for forbidden in sets:
+        if not any(holds_by_the_words(raw, start, forbidden, item) for item in traps):
+            return False
+    return True
+
+
+def largest():
+    """Return a board of 8 fields and 6 prices, all of whose moves with a price have to be forbidden."""
+    raw = {"s": (2, "abcdefg", False), **{name: (1, "", False) for name in "abcdef"}, "g": (1, "", True)}
+    return made(raw, "s", [(("s", name), cost) for name, cost in zip("fbdcea", [9, 8, 7, 3, 2, 1])])
+
+
+def two_ways(*costs):
+    """Return a board that is won by forbidding the third move, or the first two."""
+    raw = {"a": (1, "bc", False), "b": (2, "gd", False), "c": (2, "dge", False), "d": (1, "d", False),
+           "e": (1, "d", False), "g": (2, "a", True)}
+    return made(raw, "a", zip([("c", "d"), ("c", "e"), ("b", "d")], costs))
+
+
+def spoiled():
+    """Return a board that is won with its third move, or with its second one without the first."""
+    raw = {"a": (1, "bc", False), "b": (2, "gd", False), "c": (2, "gd", False), "d": (1, "", False),
+           "g": (1, "", True)}
+    return made(raw, "a", [(("a", "b"), 1), (("b", "d"), 4), (("c", "d"), 5)])
+
+
+def lost():
+    """Return a board with two prices on which no set is winning."""
+    raw = {"a": (1, "ab", False), "b": (2, "ab", False)}
+    return made(raw, "a", [(("b", "b"), 1), (("a", "b"), 2)])
+
+
+def at_goal():
+    """Return a board that starts at a goal, with two prices."""
+    return made({"a": (2, "ab", True), "b": (1, "", False)}, "a", [(("a", "b"), 1), (("a", "a"), 2)])
 
 
 def dicts_over(names, values):
