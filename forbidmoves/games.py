@@ -81,17 +81,14 @@ class Game:
 def good_fields(board, forbidden, found, spot):
     """List the fields to which good moves lead from a spot, with the distances that were found."""
     ahead = next_fields(board, spot, forbidden)
-    if len(ahead) == 0:
-        return []
-    if found[spot] is None:
-        return fields_without_distance(board[spot].owner, found, ahead)
-    known = [found[name] for name in ahead if found[name] is not None]
-    best = min(known) if board[spot].owner == 1 else max(known)
+    best = best_distance(board[spot].owner, found[spot], [found[name] for name in ahead])
     return [name for name in ahead if found[name] == best]
 
 
-def fields_without_distance(owner, found, ahead):
-    """List the fields ahead to which moves from a field without a distance are good."""
-    if owner == 1:
-        return ahead
-    return [name for name in ahead if found[name] is None]
+def best_distance(owner, here, ahead):
+    """Return the distance of the fields to which a player's good moves lead, None for fields without one."""
+    known = [distance for distance in ahead if distance is not None]
+    # Where the first player has no distance, no move leads to one: all of them are good then.
+    if here is None or len(known) == 0:
+        return None
+    return min(known) if owner == 1 else max(known)
